@@ -1,4 +1,4 @@
-// Package giveup is how the inner packages stop at what can't be read or written: from however deep, by a panic that the face recovers.
+// Package giveup is how the inner packages stop at what can't be read, written or linked: from however deep, by a panic that the face recovers.
 package giveup
 
 import "kiln/api"

@@ -31,10 +31,32 @@ func TestEncodeOfAnything(t *testing.T) {
 			t.Fatalf("P1: %+v: %x, %d", u, s, e)
 		}
 	}
-	huge := api.Unit{Shapes: make([][]int, 1000000), Consts: make([]int, 1000000), Funcs: make([]api.Func, 1000000), Imports: make([]api.Import, 1000000), Exports: make([]api.Export, 1000000)}
-	if s, e := kiln.Encode(huge); s != "" || e != api.ErrUnit {
+	if s, e := kiln.Encode(huge()); s != "" || e != api.ErrUnit {
 		t.Errorf("P1: a huge unit: %d bytes, %d", len(s), e)
 	}
+}
+
+// P1: any units.
+func TestLinkOfAnything(t *testing.T) {
+	r := rand.New(rand.NewPCG(23, 24))
+	for range 5000 {
+		units := make([]api.Unit, r.IntN(8))
+		for i := range units {
+			units[i] = anyUnit(r)
+		}
+		u, e, k := kiln.Link(units)
+		want, wantE, wantK := linked(units)
+		if e != wantE || k != wantK || !reflect.DeepEqual(plain(u), plain(want)) {
+			t.Fatalf("P1: %+v: %+v, %d, %d, want %+v, %d, %d", units, u, e, k, want, wantE, wantK)
+		}
+	}
+	linkRefused(t, "a huge unit", []api.Unit{{}, huge()}, api.ErrUnit, 1)
+	linkRefused(t, "a unit at all bounds", []api.Unit{largest()}, api.ErrTwice, 0)
+}
+
+func huge() api.Unit {
+	const n = 1000000
+	return api.Unit{Shapes: make([][]int, n), Consts: make([]int, n), Funcs: make([]api.Func, n), Imports: make([]api.Import, n), Exports: make([]api.Export, n)}
 }
 
 func anyUnit(r *rand.Rand) api.Unit {
@@ -94,6 +116,9 @@ func TestAnswersAgain(t *testing.T) {
 		u    api.Unit
 		f    api.Errno
 		at   int
+		l    api.Unit
+		g    api.Errno
+		k    int
 	}
 	ask := func(u api.Unit) answer {
 		var a answer
@@ -101,6 +126,8 @@ func TestAnswersAgain(t *testing.T) {
 		b := bytesOf(u)
 		a.u, a.f, a.at = kiln.Decode(b[:len(b)-len(b)%3])
 		a.u = plain(a.u)
+		a.l, a.g, a.k = kiln.Link([]api.Unit{u, {Shapes: u.Shapes}})
+		a.l = plain(a.l)
 		return a
 	}
 	var units []api.Unit

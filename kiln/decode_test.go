@@ -191,6 +191,18 @@ func TestDecodeWrongSections(t *testing.T) {
 	}
 }
 
+// An empty body is no list: each section is refused where it begins itself, and the first is no other than the rest.
+func TestDecodeEmptyBodies(t *testing.T) {
+	refusedAt(t, "the first section alone, and empty", "KILN\x01\x01\x00\x00\x00\x00\x00", 5)
+	for k := range 5 {
+		bodies := []string{"\x00", "\x00", "\x00", "\x00", "\x00"}
+		bodies[k] = ""
+		text, places := joined(bodies)
+		refusedAt(t, "an empty body", text, places[k])
+		refusedAt(t, "an empty body in the end", text[:places[k+1]], places[k])
+	}
+}
+
 func TestDecodeWrongBodies(t *testing.T) {
 	code := func(ins string) string { return "\x01\x00\x00\x00\x01" + ins }
 	for _, c := range []struct {

@@ -14,39 +14,39 @@ func Read(text string) api.Unit {
 	giveup.Refusal{E: api.ErrLong}.Unless(len(text) <= api.MaxBytes)
 	giveup.Refusal{E: api.ErrForm}.Unless(strings.HasPrefix(text, head))
 	var u api.Unit
+	var why giveup.Refusal
 	s := &sections{text: text, at: len(head)}
-	u.Shapes = readSection(s, shapesSection, readKinds)
-	wellformed.Shapes(u.Shapes, s.why)
-	u.Consts = readSection(s, constsSection, readSigned)
-	wellformed.Consts(u.Consts, s.why)
-	u.Funcs = readSection(s, funcsSection, readFunc)
-	wellformed.Funcs(u.Funcs, len(u.Shapes), s.why)
-	u.Imports = readSection(s, importsSection, readImport)
-	wellformed.Imports(u.Imports, len(u.Shapes), s.why)
-	u.Exports = readSection(s, exportsSection, readExport)
-	wellformed.Exports(u.Exports, len(u.Funcs), s.why)
+	u.Shapes, why = readSection(s, shapesSection, readKinds)
+	wellformed.Shapes(u.Shapes, why)
+	u.Consts, why = readSection(s, constsSection, readSigned)
+	wellformed.Consts(u.Consts, why)
+	u.Funcs, why = readSection(s, funcsSection, readFunc)
+	wellformed.Funcs(u.Funcs, len(u.Shapes), why)
+	u.Imports, why = readSection(s, importsSection, readImport)
+	wellformed.Imports(u.Imports, len(u.Shapes), why)
+	u.Exports, why = readSection(s, exportsSection, readExport)
+	wellformed.Exports(u.Exports, len(u.Funcs), why)
 	giveup.Refusal{E: api.ErrForm, At: s.at}.Unless(s.at == len(text))
 	return u
 }
 
-// sections goes through a unit's bytes. Whatever is wrong with the section that was read last is refused by why, which tells where it begins.
+// sections goes through a unit's bytes.
 type sections struct {
 	text string
 	at   int
-	why  giveup.Refusal
 }
 
-func readSection[T any](s *sections, number byte, readOne func(*cursor) T) []T {
-	c := &cursor{rest: s.open(number), why: s.why}
-	list := readList(c, readOne)
-	c.why.Unless(c.rest == "")
-	return list
+// readSection tells the list, and how to refuse it if it is wrong as a whole.
+func readSection[T any](s *sections, number byte, readOne func(*cursor) T) ([]T, giveup.Refusal) {
+	body := s.open(number)
+	list := readList(body, readOne)
+	body.why.Unless(body.rest == "")
+	return list, body.why
 }
 
-// open tells the body of the section that begins here, and goes behind it.
-func (s *sections) open(number byte) string {
-	s.why = giveup.Refusal{E: api.ErrForm, At: s.at}
-	c := &cursor{rest: s.text[s.at:], why: s.why}
+// open tells the body of the section that begins here, and goes behind it. The body comes with its own refusal, since one kept in s and changed by each section could be asked in the statement that changes it, in an order that Go leaves open.
+func (s *sections) open(number byte) *cursor {
+	c := &cursor{rest: s.text[s.at:], why: giveup.Refusal{E: api.ErrForm, At: s.at}}
 	c.why.Unless(readByte(c) == number)
 	body := c.take(readNumber(c))
 	sum := check(body)
@@ -55,10 +55,10 @@ func (s *sections) open(number byte) string {
 		sum >>= 8
 	}
 	s.at = len(s.text) - len(c.rest)
-	return body
+	return &cursor{rest: body, why: c.why}
 }
 
-// cursor is at the bytes that are not read yet.
+// cursor is at the bytes that are not read yet. Whatever is wrong with them is refused by why, which tells where their section begins.
 type cursor struct {
 	rest string
 	why  giveup.Refusal
