@@ -1,12 +1,12 @@
-// Package giveup is how the inner packages stop at what can't be read, written or linked: from however deep, by a panic that the face recovers.
+// Package giveup is how the inner packages stop at what can't be read, written or linked, or is wrong: from however deep, by a panic that the face recovers.
 package giveup
 
 import "kiln/api"
 
-// Refusal is the answer of a call that gave up: its error and the number that is told with it.
+// Refusal is the answer of a call that gave up: its error and the number that is told with it; of an instruction, In is its function's.
 type Refusal struct {
-	E  api.Errno
-	At int
+	E      api.Errno
+	In, At int
 }
 
 // Unless gives up, unless it holds.

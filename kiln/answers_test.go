@@ -119,6 +119,7 @@ func TestAnswersAgain(t *testing.T) {
 		l    api.Unit
 		g    api.Errno
 		k    int
+		v    [3]int
 	}
 	ask := func(u api.Unit) answer {
 		var a answer
@@ -128,6 +129,8 @@ func TestAnswersAgain(t *testing.T) {
 		a.u = plain(a.u)
 		a.l, a.g, a.k = kiln.Link([]api.Unit{u, {Shapes: u.Shapes}})
 		a.l = plain(a.l)
+		e, f, at := kiln.Verify(u)
+		a.v = [3]int{int(e), f, at}
 		return a
 	}
 	var units []api.Unit

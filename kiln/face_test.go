@@ -7,22 +7,18 @@ import (
 	"kiln/giveup"
 )
 
-func TestAnswerOfWhatWasGivenUp(t *testing.T) {
-	made, e, at := answer(func() string {
-		giveup.Refusal{E: api.ErrSig, At: 3}.Unless(false)
-		return "made"
-	})
-	if made != "" || e != api.ErrSig || at != 3 {
-		t.Errorf("given up: %q, %d, %d", made, e, at)
+func TestRefusalOfWhatWasGivenUp(t *testing.T) {
+	given := giveup.Refusal{E: api.ErrCode, In: 2, At: 3}
+	if why := refusal(func() { given.Unless(false) }); why != given {
+		t.Errorf("given up with %v: %v", given, why)
 	}
-	made, e, at = answer(func() string { return "made" })
-	if made != "made" || e != api.OK || at != 0 {
-		t.Errorf("made: %q, %d, %d", made, e, at)
+	if why := refusal(func() { given.Unless(true) }); why != (giveup.Refusal{}) {
+		t.Errorf("not given up: %v", why)
 	}
 }
 
 // Every panic but a refusal goes on.
-func TestAnswerLetsOtherPanicsGoOn(t *testing.T) {
+func TestRefusalLetsOtherPanicsGoOn(t *testing.T) {
 	for _, value := range []any{"another", api.ErrUnit, 1, &giveup.Refusal{}} {
 		func() {
 			defer func() {
@@ -30,7 +26,7 @@ func TestAnswerLetsOtherPanicsGoOn(t *testing.T) {
 					t.Errorf("a panic of %v became %v", value, r)
 				}
 			}()
-			answer(func() string { panic(value) })
+			refusal(func() { panic(value) })
 			t.Errorf("a panic of %v became an answer", value)
 		}()
 	}

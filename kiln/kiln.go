@@ -5,39 +5,47 @@ import (
 	"kiln/api"
 	"kiln/giveup"
 	"kiln/link"
+	"kiln/look"
 	"kiln/wire"
 )
 
 // Encode writes a unit's bytes (P3).
 func Encode(u api.Unit) (string, api.Errno) {
-	bytes, e, _ := answer(func() string { return wire.Write(u) })
-	return bytes, e
+	var bytes string
+	why := refusal(func() { bytes = wire.Write(u) })
+	return bytes, why.E
 }
 
 // Decode reads them (P4).
 func Decode(bytes string) (api.Unit, api.Errno, int) {
-	return answer(func() api.Unit { return wire.Read(bytes) })
+	var u api.Unit
+	why := refusal(func() { u = wire.Read(bytes) })
+	return u, why.E, why.At
 }
 
 // Link makes one unit of several (P5).
 func Link(units []api.Unit) (api.Unit, api.Errno, int) {
-	return answer(func() api.Unit { return link.Units(units) })
+	var one api.Unit
+	why := refusal(func() { one = link.Units(units) })
+	return one, why.E, why.At
 }
 
 // Verify looks through a unit (P6).
-func Verify(u api.Unit) (api.Errno, int, int) { return api.OK, 0, 0 }
+func Verify(u api.Unit) (api.Errno, int, int) {
+	why := refusal(func() { look.Through(u) })
+	return why.E, why.In, why.At
+}
 
 // Run runs units (P7).
 func Run(units []string, fuel int, heap int) api.Outcome { return api.Outcome{} }
 
-// answer tells what the work makes, or with nothing made why it was given up.
-func answer[T any](work func() T) (made T, e api.Errno, at int) {
+// refusal tells why the work was given up, or the refusal of nothing (OK). The work hands over what it makes in one assignment, so that of what was given up nothing is left.
+func refusal(work func()) (why giveup.Refusal) {
 	defer func() {
 		if r := recover(); r != nil {
-			refusal := giveup.Of(r)
-			e, at = refusal.E, refusal.At
+			why = giveup.Of(r)
 		}
 	}()
-	made = work()
-	return made, api.OK, 0
+	work()
+	return why
 }

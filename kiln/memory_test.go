@@ -67,12 +67,17 @@ func TestEncodeLeavesItsArgument(t *testing.T) {
 	for range 200 {
 		units = append(units, randomUnit(r), anyUnit(r))
 	}
+	leaves(t, "Encode", units, func(u api.Unit) { kiln.Encode(u) })
+}
+
+func leaves(t *testing.T, name string, units []api.Unit, ask func(u api.Unit)) {
+	t.Helper()
 	for _, u := range units {
 		u = roomy(u)
 		before := stretched(u)
-		kiln.Encode(u)
+		ask(u)
 		if after := stretched(u); !reflect.DeepEqual(after, before) {
-			t.Errorf("P2: Encode wrote into what it was given: %+v, before: %+v", after, before)
+			t.Errorf("P2: %s wrote into what it was given: %+v, before: %+v", name, after, before)
 		}
 	}
 }

@@ -1,4 +1,4 @@
-// Package wellformed has the bounds of a unit, part by part, so that what is written, read and linked is held to the same ones.
+// Package wellformed has the bounds of a unit, part by part, so that what is written, read, linked and looked through is held to the same ones.
 package wellformed
 
 import (
