@@ -6,6 +6,7 @@ import (
 	"kiln/giveup"
 	"kiln/link"
 	"kiln/look"
+	"kiln/machine"
 	"kiln/wire"
 )
 
@@ -37,7 +38,30 @@ func Verify(u api.Unit) (api.Errno, int, int) {
 }
 
 // Run runs units (P7).
-func Run(units []string, fuel int, heap int) api.Outcome { return api.Outcome{} }
+func Run(units []string, fuel int, heap int) api.Outcome {
+	if fuel < 0 || fuel > api.MaxFuel || heap < 0 || heap > api.MaxHeap {
+		return api.Outcome{Why: api.BadArgs}
+	}
+	var read []api.Unit
+	for n, bytes := range units {
+		u, e, at := Decode(bytes)
+		if e != api.OK {
+			return api.Outcome{Why: api.BadBytes, E: e, Unit: n, At: at}
+		}
+		// One more than can be linked is as bad as any number more, and takes less room.
+		if len(read) <= api.MaxUnits {
+			read = append(read, u)
+		}
+	}
+	one, e, number := Link(read)
+	if e != api.OK {
+		return api.Outcome{Why: api.BadLink, E: e, Unit: number}
+	}
+	if e, function, at := Verify(one); e != api.OK {
+		return api.Outcome{Why: api.BadCode, E: e, Unit: function, At: at}
+	}
+	return machine.Run(one, fuel, heap)
+}
 
 // refusal tells why the work was given up, or the refusal of nothing (OK). The work hands over what it makes in one assignment, so that of what was given up nothing is left.
 func refusal(work func()) (why giveup.Refusal) {

@@ -259,7 +259,7 @@ func b2i(b bool) int {
 	return 0
 }
 
-// soundUnits are units that link, in which no instruction is wrong.
+// soundUnits are units that link, in which no instruction is wrong. The first one's function 0 is exported as main, which can be run.
 func soundUnits(r *rand.Rand) []api.Unit {
 	units := make([]api.Unit, 1+r.IntN(4))
 	for i := range units {
@@ -268,8 +268,12 @@ func soundUnits(r *rand.Rand) []api.Unit {
 		u.Consts = make([]int, r.IntN(4))
 		for n := range 1 + r.IntN(3) {
 			f := api.Func{Params: randomKinds(r, 4, 3), Locals: randomKinds(r, 4, 3), Result: r.IntN(4)}
+			name := strconv.Itoa(10*i + n)
+			if i == 0 && n == 0 {
+				f.Params, f.Result, name = nil, 0, "main"
+			}
 			u.Funcs = append(u.Funcs, f)
-			u.Exports = append(u.Exports, api.Export{Name: strconv.Itoa(10*i + n), Func: n})
+			u.Exports = append(u.Exports, api.Export{Name: name, Func: n})
 		}
 	}
 	for i := range units {
