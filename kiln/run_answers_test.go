@@ -92,6 +92,23 @@ func TestRunOfAnything(t *testing.T) {
 	runs(t, "many units of the most bytes", slices.Repeat(encoded(t, longestUnit(0)), 500), 0, 0, many)
 }
 
+// P1: any bodies of sections.
+func FuzzRun(f *testing.F) {
+	r := rand.New(rand.NewPCG(67, 68))
+	for _, u := range []api.Unit{{}, sample(), program(mainly("Small 1; Ret")), blockProgram(r), blockProgram(r), soundUnits(r)[0]} {
+		b := bodiesOf(u)
+		f.Add(b[0], b[1], b[2], b[3], b[4], 100, 20)
+	}
+	f.Fuzz(func(t *testing.T, a, b, c, d, e string, fuel, heap int) {
+		text, _ := joined([]string{a, b, c, d, e})
+		// The second opinion is slow.
+		fuel = min(fuel, 5000)
+		if o, want := kiln.Run([]string{text}, fuel, heap), outcomeOf([]string{text}, fuel, heap); !sameOutcome(o, want) {
+			t.Errorf("P1: %x, %d, %d: %+v, want %+v", text, fuel, heap, o, want)
+		}
+	})
+}
+
 // P2: the list that is handed in is not written into, nor is what stands behind it.
 func TestRunLeavesItsArgument(t *testing.T) {
 	r := rand.New(rand.NewPCG(63, 64))

@@ -107,10 +107,9 @@ func TestRunNumbers(t *testing.T) {
 }
 
 func TestRunFields(t *testing.T) {
-	pair, trio := "Small 5; Nil 1; New 1; ", "Nil 1; Nil 2; Small 6; New 2; "
 	runRows(t, []runRow{
 		{pair + "Get 1 0; Ret", halted(5, 5)}, {pair + "Get 1 1; IsNil 1; Ret", halted(1, 6)},
-		{trio + "Get 2 2; Ret", halted(6, 6)}, {trio + "Get 2 1; IsNil 2; Ret", halted(1, 7)},
+		{four + "Get 2 2; Ret", halted(5, 6)}, {four + "Get 2 1; IsNil 2; Ret", halted(1, 7)},
 		// The last field was on top, and what was below stays.
 		{"Small 9; " + pair + pair + "Pop; Get 1 0; Sub; Ret", halted(4, 11)},
 		{"Small 7; " + pair + "New 1; Dup; Get 1 0; Out; Get 1 1; Get 1 0; Ret", halted(5, 11, 7)},
@@ -119,7 +118,7 @@ func TestRunFields(t *testing.T) {
 		{pair + "Store 1; Load 1; Small 8; Set 1 0; " + pair + "Get 1 0; Out; Load 1; Get 1 0; Ret", halted(8, 15, 5)},
 		// Fields are apart from each other and from the stack on which they were.
 		{pair + "Store 1; Load 1; Load 1; Set 1 1; Load 1; Get 1 1; Get 1 1; Get 1 0; Ret", halted(5, 12)},
-		{trio + "Store 2; Load 2; Small 4; Set 2 2; Load 2; Load 2; Set 2 1; Load 2; Get 2 1; Get 2 2; Out; Load 2; Get 2 0; IsNil 1; Ret", halted(1, 19, 4)},
+		{four + "Store 2; Load 2; Small 4; Set 2 2; Load 2; Load 2; Set 2 1; Load 2; Get 2 1; Get 2 2; Out; Load 2; Get 2 0; IsNil 1; Ret", halted(1, 19, 4)},
 		{"Small 1; Small 2; Nil 1; New 1; Small 3; Out; Small 4; Small 4; Pop; Pop; Get 1 0; Out; Ret", halted(1, 13, 3, 2)},
 		// Faults.
 		{"Nil 1; Get 1 0; Ret", ended(api.Fault, 2)}, {"Nil 2; Get 2 2; Ret", ended(api.Fault, 2)}, {"Load 1; Get 1 1; IsNil 1; Ret", ended(api.Fault, 2)},
